@@ -1,0 +1,1 @@
+"""Spanrounds: rows of numbers that are replaced by their spans."""

@@ -1,0 +1,112 @@
+"""Every example of DOC.md, sections 4 to 6, as written there, the table of [10], and those of README.md."""
+
+import doctest
+import pathlib
+import unittest
+
+from spanrounds.forests import from_brackets, to_brackets
+from spanrounds.rows import row_after, rows_of
+from spanrounds.settling import rounds_needed
+
+ROWS = """
+>>> from spanrounds.rows import is_row
+>>> [is_row((9, -7, 9)), is_row([9]), is_row(()), is_row((True,))]
+[True, False, False, False]
+
+>>> from spanrounds.rows import hinderer, span_of
+>>> row = (9, 7, 8, 5, 6, 4)
+>>> [[hinderer(row, place) for place in [0, 2, 4]], [span_of(row, place) for place in [0, 2, 4]]]
+[[None, 0, 2], [1, 2, 2]]
+
+>>> from spanrounds.rows import row_after
+>>> row = (9, 7, 8, 5, 6, 4)
+>>> [row_after(row), row_after(row, rounds=10 ** 30), row_after((5, 5), rounds=0)]
+[(1, 1, 2, 1, 2, 1), (1, 1, 3, 1, 2, 1), (5, 5)]
+
+>>> from spanrounds.rows import rows_of
+>>> [list(rows_of((4, 2, 3))), list(rows_of((1, 2)))]
+[[(4, 2, 3), (1, 1, 2), (1, 1, 3)], [(1, 2)]]
+"""
+
+SETTLING = """
+>>> from spanrounds.settling import final_row, is_still
+>>> row = (9, 7, 8, 5, 6, 4)
+>>> [is_still(row), final_row(row), is_still((1, 1, 3))]
+[False, (1, 1, 3, 1, 2, 1), True]
+
+>>> from spanrounds.settling import rounds_at, rounds_needed
+>>> row = (9, 7, 8, 5, 6, 4)
+>>> [rounds_needed(row), [rounds_at(row, place) for place in range(6)], rounds_needed((7, 8, 9, 5, 6, 4, 2, 3))]
+[2, [1, 1, 2, 1, 1, 1], 4]
+
+>>> from spanrounds.settling import most_rounds, rounds_needed, slowest_row
+>>> [[most_rounds(size), rounds_needed(slowest_row(size))] for size in [1, 2, 3, 4, 5, 8, 13, 100]]
+[[1, 1], [1, 1], [2, 2], [2, 2], [3, 3], [4, 4], [5, 5], [9, 9]]
+
+>>> from spanrounds.settling import meeting
+>>> [meeting((4, 2, 3), (1, 1, 3)), meeting((5, 5), (5, 5)), meeting((1, 2), (2, 1))]
+[2, 0, None]
+"""
+
+FORESTS = """
+>>> from spanrounds.forests import is_spans
+>>> [is_spans((1, 1, 2)), is_spans((1, 2, 2)), is_spans((2,))]
+[True, False, False]
+
+>>> from spanrounds.forests import children_of, parent_of
+>>> spans = (1, 1, 3, 1, 2, 1)
+>>> [[parent_of(spans, place) for place in range(6)], children_of(spans, 2), children_of(spans, 5)]
+[[2, 2, None, 4, None, None], [0, 1], []]
+
+>>> from spanrounds.forests import roots_of
+>>> [roots_of((1, 1, 3, 1, 2, 1)), roots_of((1, 2, 3))]
+[[2, 4, 5], [2]]
+
+>>> from spanrounds.forests import from_brackets, to_brackets
+>>> [to_brackets((1, 1, 3, 1, 2, 1)), from_brackets('(())()')]
+['(()())(())()', (1, 2, 1)]
+
+>>> from spanrounds.forests import stretch_of
+>>> [stretch_of((1, 1, 2, 1, 2, 1), place) for place in range(6)]
+[(0, 5), (1, 1), (1, 5), (3, 3), (3, 5), (5, 5)]
+"""
+
+
+class Examples(unittest.TestCase):
+    def check(self, text, calls):
+        test = doctest.DocTestParser().get_doctest(text, {}, "examples", None, 0)
+        told = []
+        results = doctest.DocTestRunner(verbose=False).run(test, out=told.append)
+        self.assertEqual((results.failed, results.attempted), (0, calls), "".join(told))
+
+    def test_section_4(self):
+        self.check(ROWS, 10)
+
+    def test_section_5(self):
+        self.check(SETTLING, 10)
+
+    def test_section_6(self):
+        self.check(FORESTS, 11)
+
+    def test_readme(self):
+        path = pathlib.Path(__file__).resolve().parent.parent / "README.md"
+        examples = [part for part in path.read_text(encoding="utf-8").split("```") if ">>>" in part]
+        self.assertEqual(len(examples), 1)
+        self.check(examples[0], 12)
+
+    def test_table_of_point_10(self):
+        row = (9, 7, 8, 5, 6, 4)
+        self.assertEqual(row_after(row, rounds=0), (9, 7, 8, 5, 6, 4))
+        self.assertEqual(row_after(row, rounds=1), (1, 1, 2, 1, 2, 1))
+        self.assertEqual(row_after(row, rounds=2), (1, 1, 3, 1, 2, 1))
+        self.assertEqual(row_after(row, rounds=3), (1, 1, 3, 1, 2, 1))
+        self.assertEqual(list(rows_of(row)), [row, (1, 1, 2, 1, 2, 1), (1, 1, 3, 1, 2, 1)])
+        self.assertEqual(rounds_needed(row), 2)
+        self.assertEqual(to_brackets((1, 1, 2, 1, 2, 1)), "()(())(())()")
+        self.assertEqual(to_brackets((1, 1, 3, 1, 2, 1)), "(()())(())()")
+        self.assertEqual(from_brackets("()(())(())()"), (1, 1, 2, 1, 2, 1))
+        self.assertEqual(from_brackets("(()())(())()"), (1, 1, 3, 1, 2, 1))
+
+
+if __name__ == "__main__":
+    unittest.main()

@@ -1,6 +1,6 @@
 """Checks of the numbers that several modules take."""
 
-from spanrounds.errors import InvalidPlace, InvalidRounds, InvalidSize
+from spanrounds.errors import InvalidNumber, InvalidPlace, InvalidRounds, InvalidSize
 
 MOST_ENTRIES = 100
 GREATEST_ENTRY = 10 ** 30
@@ -29,3 +29,9 @@ def check_size(size):
     """Raise InvalidSize unless this is a number of entries."""
     if not is_whole(size, 1, MOST_ENTRIES):
         raise InvalidSize("the size is not an integer from 1 to 100")
+
+
+def check_number(number, count):
+    """Raise InvalidNumber unless one of so many things, numbered from 0, has this number."""
+    if not is_whole(number, 0, count - 1):
+        raise InvalidNumber("the number is not an integer from 0 to the count minus 1")

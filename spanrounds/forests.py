@@ -98,6 +98,16 @@ def from_brackets(text):
 
 def stretch_of(spans, place):
     """Return the first and the last place of the stretch of a place."""
-    parent = parent_of(spans, place)
-    last = len(spans) - 1 if parent is None else parent - 1
-    return first_covered(spans, place), last
+    check_spans(spans)
+    check_place(place, len(spans))
+    return all_stretches(spans)[place]
+
+
+def all_stretches(spans):
+    """Return the list of the first and the last place of the stretch of each place, as tuples."""
+    lasts = [len(spans) - 1] * len(spans)
+    # From the back, so that of all the places that cover a place the first one, its parent, is noted last.
+    for place in range(len(spans) - 1, -1, -1):
+        for descendant in range(first_covered(spans, place), place):
+            lasts[descendant] = place - 1
+    return [(first_covered(spans, place), last) for place, last in enumerate(lasts)]

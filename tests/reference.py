@@ -144,3 +144,56 @@ def has_still_siblings(spans):
     """[8]: of two neighbouring siblings, the one in front has at least the entry of the other one."""
     families = [roots(spans)] + [children(spans, place) for place in range(len(spans))]
     return all(spans[one] >= spans[two] for family in families for one, two in zip(family, family[1:]))
+
+
+def still_rows(size):
+    """[8], in the order of section 7: sorted by their reversed rows."""
+    return sorted((row for row in built_span_rows(size) if has_still_siblings(row)), key=lambda row: row[::-1])
+
+
+def sequence(order):
+    """[11]: the places from the one with the greatest integer to the one with the least."""
+    return tuple(order.index(integer) for integer in reversed(range(len(order))))
+
+
+def by_spans(rows):
+    """The rows as lists by their span rows."""
+    groups = {}
+    for row in rows:
+        groups.setdefault(after_round(row), []).append(row)
+    return groups
+
+
+def sign(row, place, other):
+    """How two entries of one row stand to each other."""
+    return "<" if row[place] < row[other] else ">" if row[place] > row[other] else "="
+
+
+def relations(spans):
+    """[12] for all pairs of different places."""
+    places = range(len(spans))
+    parents = [min((one for one in places if place in descendants(spans, one)), default=None) for place in places]
+    stretches = [stretch(spans, place) for place in places]
+    found = {}
+    for high in places:
+        for low in places:
+            is_covered = low in descendants(spans, high)
+            if is_covered or high < low <= stretches[high][1]:
+                may_be_equal = not is_covered and parents[low] == parents[high]
+                found[low, high] = "<=" if may_be_equal else "<"
+                found[high, low] = ">=" if may_be_equal else ">"
+    return {(one, two): found.get((one, two), "open") for one in places for two in places if one != two}
+
+
+def weighted_round(row, weights):
+    """[13]: each entry becomes the sum of the weights from behind its hinderer up to itself."""
+    fronts = [hinderer(row, place) for place in range(len(row))]
+    return tuple(sum(weights[0 if front is None else front + 1:place + 1]) for place, front in enumerate(fronts))
+
+
+def weighted_rows(row, weights):
+    """The row and the rows after each weighted round up to the first that does not change."""
+    rows = [row]
+    while weighted_round(rows[-1], weights) != rows[-1]:
+        rows.append(weighted_round(rows[-1], weights))
+    return rows

@@ -63,6 +63,61 @@ NO_BRACKETS = [
     {"()": 1}, (1, 1, 2), GREATEST, nested(20), plain_function,
 ]
 
+# Rows that a round changes.
+NO_STILL = [
+    (0,), (2,), (-1,), (2, 1), (1, 3), (2, 2), (1, 1, 2), (4, 2, 3), (1, 2, 2), (1, 2, 1, 3), (1, 1, 2, 1, 2, 1),
+    (1, 1, 2, 1), (1, 2, 1, 2, 4), (9, 7, 8, 5, 6, 4), (GREATEST,), (-GREATEST,), (1,) * 99 + (2,), (1,) * 99 + (0,),
+    (2,) + (1,) * 99, (1, 2) + (1,) * 97 + (2,), tuple(range(100)), tuple(range(100, 0, -1)), (GREATEST,) * 100,
+]
+
+# Rows that are not orders: an integer twice, missing, too great or too small.
+NO_ORDERS_BUT_ROWS = [
+    (1,), (-1,), (2,), (0, 0), (1, 1), (1, 2), (0, 2), (2, 0), (-1, 0), (0, 1, 1), (0, 0, 2), (1, 2, 3), (0, 1, 3),
+    (5, 3, 4, 1, 2, 2), (5, 3, 4, 1, 2, 6), (5, 3, 4, 1, 2, -1), (6, 4, 5, 2, 3, 1), (5, 5, 4, 1, 2, 0),
+    (0, GREATEST), (-GREATEST, 0), (1,) * 100, tuple(range(1, 101)), tuple(range(-1, 99)), tuple(range(99)) + (98,),
+    tuple(range(99)) + (100,), (1,) + tuple(range(1, 100)), tuple(range(0, 200, 2)),
+]
+
+NO_ORDERS = NO_ROWS + NO_ORDERS_BUT_ROWS + [
+    (False,), (True, False), (False, 1), (0, True), (1, False, 2), (5, 3, 4, True, 2, 0), (5, 3, 4, 1, 2, False),
+    (0, None), ("0",), (0, "1"), ("0", "1"), ((0,),), (0, (1,)), ((0, 1),), ([0],), (0, [1]), (b"0",), ({},),
+    (0, {1: 1}), [0], [1, 0], [5, 3, 4, 1, 2, 0], list(range(100)), tuple(range(101)), tuple(range(200)),
+    "0", "10", "534120", b"\0", 0, {0: 0}, {0: 1, 1: 0}, range(1), range(6),
+]
+
+NO_BELOWS = [0, -1, -2, -GREATEST, GREATEST + 1, 10 ** 31, 10 ** 199, -10 ** 199] + NO_INTEGERS
+
+NO_SIGNS = [
+    "", "<=", ">=", "==", "=<", "=>", "<>", "!=", "<<", "<=>", " <", "< ", "<\n", "=\n", " ", "open", "a", "lt", "-",
+    b"<", b"=", b">", None, True, False, 0, 1, -1, 60, GREATEST, (), ("<",), ("<", "=", ">"), [], ["<"], {}, {"<": 1},
+    nested(20), plain_function,
+]
+
+GREATEST_WEIGHT = 10 ** 28
+# No weights for a row of six entries.
+NO_WEIGHTS = [
+    (), (1,), (1,) * 5, (1,) * 7, (1,) * 100, (1,) * 200,
+    (0,) + (1,) * 5, (1,) * 5 + (0,), (1, 1, 0, 1, 1, 1), (0,) * 6, (-1,) + (1,) * 5, (1,) * 5 + (-GREATEST_WEIGHT,),
+    (GREATEST_WEIGHT + 1,) + (1,) * 5, (1,) * 5 + (GREATEST_WEIGHT + 1,), (1, 1, 1, 10 ** 199, 1, 1), (GREATEST,) * 6,
+    (True,) + (1,) * 5, (1,) * 5 + (True,), (1,) * 5 + (False,), (True,) * 6, (False,) * 6,
+    (None,) * 6, (1,) * 5 + (None,), ("1",) * 6, (1,) * 5 + ("1",), (1,) * 5 + (b"1",), (1,) * 5 + ((1,),),
+    (1,) * 5 + ([1],), (1,) * 5 + ({},), (1,) * 5 + (plain_function,), (1,) * 5 + (nested(19),), ((1,) * 6,),
+    [], [1], [1] * 6, [[1] * 6], "", "111111", "1 1 1 1 1 1", b"111111", None, True, False, 0, 1, 6, -1, GREATEST,
+    {}, {place: 1 for place in range(6)}, range(1, 7), nested(20), plain_function,
+]
+
+
+def no_numbers(count):
+    """Values that are no numbers of so many things."""
+    return [-1, -2, -count, count, count + 1, 2 * count, 10 ** 199, -10 ** 199] + NO_INTEGERS
+
+
+def numbers_among(count):
+    """Numbers of so many things: the first ones, the last ones, some between, and the ones next to them."""
+    chance = random.Random(count)
+    some = [0, 1, count // 3, count // 2, count - 1] + [chance.randrange(count) for _ in range(12)]
+    return sorted({number + step for number in some for step in [-1, 0, 1] if 0 <= number + step < count})
+
 
 def small_rows(size):
     """All rows of so many entries as far as their order and their first round matter, and one value more."""
@@ -84,3 +139,39 @@ def long_rows():
 
 def long_span_rows():
     return [reference.after_round(row) for row in long_rows()]
+
+
+def shapes():
+    """Span rows of 100 entries of several kinds, by name."""
+    chance = random.Random(100)
+    rows = {
+        "falling": tuple(range(100, 0, -1)),
+        "rising": tuple(range(100)),
+        "one root over all": (0,) * 99 + (1,),
+        "ten times ten": tuple(range(10)) * 10,
+        "pairs": (0, 1) * 50,
+        "deep with leaves": tuple(place // 2 if place & 1 else 0 for place in range(100)),
+        "deep with leaves behind": tuple(0 if place & 1 else place for place in range(100)),
+        "half deep, half flat": tuple(range(50)) + (0,) * 50,
+        "half flat, half deep": (9,) * 50 + tuple(range(50)),
+        "halves in halves": tuple((place & -place).bit_length() for place in range(1, 101)),
+        "two deep ones": tuple(range(49)) * 2 + (50, 0),
+        "at random": tuple(chance.sample(range(100), 100)),
+        "at random, often equal": tuple(chance.randrange(8) for _ in range(100)),
+        "mostly rising": tuple(place + chance.randrange(20) for place in range(100)),
+        "mostly falling": tuple(chance.randrange(20) - place for place in range(100)),
+    }
+    return {name: reference.after_round(row) for name, row in rows.items()}
+
+
+def changed_span_rows():
+    """Rows that differ from a span row in one entry, and are no span rows."""
+    chance = random.Random(7)
+    found = []
+    for spans in long_span_rows():
+        for place in {0, len(spans) - 1, chance.randrange(len(spans))}:
+            entry = chance.choice([0, -1, spans[place] + 1, spans[place] - 1, place + 2, 101, GREATEST])
+            row = spans[:place] + (entry,) + spans[place + 1:]
+            if not reference.is_span_row(row):
+                found.append(row)
+    return found

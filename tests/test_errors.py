@@ -5,16 +5,23 @@ import itertools
 import unittest
 
 import samples
-from samples import GREATEST, ROW, SPANS
+from samples import GREATEST, GREATEST_WEIGHT, ROW, SPANS
 from spanrounds import errors
+from spanrounds.counting import count_spans, count_still, nth_spans, nth_still, spans_number, still_number
 from spanrounds.errors import (
+    InvalidBelow,
     InvalidBrackets,
+    InvalidNumber,
+    InvalidOrder,
     InvalidPlace,
     InvalidRounds,
     InvalidRow,
+    InvalidSign,
     InvalidSize,
+    InvalidWeights,
     NotAlike,
     NotSpans,
+    NotStill,
     SpanError,
 )
 from spanrounds.forests import (
@@ -26,6 +33,8 @@ from spanrounds.forests import (
     stretch_of,
     to_brackets,
 )
+from spanrounds.orders import count_orders, count_rows, nth_order, order_number
+from spanrounds.reading import example, is_certain, relation
 from spanrounds.rows import hinderer, is_row, row_after, rows_of, span_of
 from spanrounds.settling import (
     final_row,
@@ -36,6 +45,7 @@ from spanrounds.settling import (
     rounds_needed,
     slowest_row,
 )
+from spanrounds.weights import is_weights, weighted_after, weighted_needed
 
 NAMES = [
     "InvalidRow", "InvalidPlace", "InvalidRounds", "InvalidSize", "NotAlike", "NotSpans", "InvalidBrackets",
@@ -76,12 +86,37 @@ def first_of(row):
     return next(rows_of(row))
 
 
+def rows_below(spans, below):
+    return count_rows(spans, below=below)
+
+
+def example_with(spans, place, other, sign):
+    return example(spans, place, other, sign=sign)
+
+
+def after_weighted(row, weights, rounds):
+    return weighted_after(row, weights, rounds=rounds)
+
+
+def weights_of(row):
+    return is_weights(row, (1,) * 6)
+
+
 ROW_PART = (InvalidRow, ROW, samples.NO_ROWS)
 SPANS_PART = (NotSpans, SPANS, samples.NO_SPANS)
 PLACE_PART = (InvalidPlace, 2, samples.no_places(6))
 SIZE_PART = (InvalidSize, 6, samples.NO_SIZES)
 ROUNDS_PART = (InvalidRounds, 2, samples.NO_ROUNDS)
 BRACKETS_PART = (InvalidBrackets, "()", samples.NO_BRACKETS)
+SPANS_NUMBER_PART = (InvalidNumber, 131, samples.no_numbers(132))
+STILL_NUMBER_PART = (InvalidNumber, 48, samples.no_numbers(49))
+STILL_PART = (InvalidRow, (1, 1, 3, 1, 2, 1), samples.NO_ROWS)
+ORDER_NUMBER_PART = (InvalidNumber, 7, samples.no_numbers(8))
+ORDER_PART = (InvalidOrder, (5, 3, 4, 1, 2, 0), samples.NO_ORDERS)
+BELOW_PART = (InvalidBelow, 3, samples.NO_BELOWS)
+OTHER_PART = (InvalidPlace, 4, samples.no_places(6) + [2])
+SIGN_PART = (InvalidSign, "<", samples.NO_SIGNS)
+WEIGHTS_PART = (InvalidWeights, (3, 1, 4, 1, 5, 9), samples.NO_WEIGHTS)
 
 # Each function with its parameters, in the order in which their errors are listed:
 # the error, a valid value, and values that raise the error.
@@ -104,6 +139,23 @@ FUNCTIONS = [
     (to_brackets, [SPANS_PART]),
     (from_brackets, [BRACKETS_PART]),
     (stretch_of, [SPANS_PART, PLACE_PART]),
+    (count_spans, [SIZE_PART]),
+    (count_still, [SIZE_PART]),
+    (nth_spans, [SIZE_PART, SPANS_NUMBER_PART]),
+    (spans_number, [SPANS_PART]),
+    (nth_still, [SIZE_PART, STILL_NUMBER_PART]),
+    (still_number, [STILL_PART]),
+    (count_orders, [SPANS_PART]),
+    (nth_order, [SPANS_PART, ORDER_NUMBER_PART]),
+    (order_number, [ORDER_PART]),
+    (rows_below, [SPANS_PART, BELOW_PART]),
+    (relation, [SPANS_PART, PLACE_PART, OTHER_PART]),
+    (is_certain, [SPANS_PART, PLACE_PART, OTHER_PART]),
+    (example_with, [SPANS_PART, PLACE_PART, OTHER_PART, SIGN_PART]),
+    (weights_of, [ROW_PART]),
+    (weighted_needed, [ROW_PART, WEIGHTS_PART]),
+    (weighted_after, [ROW_PART, WEIGHTS_PART]),
+    (after_weighted, [ROW_PART, WEIGHTS_PART, ROUNDS_PART]),
 ]
 
 
@@ -127,10 +179,16 @@ class OfEachFunction(unittest.TestCase):
 
     def test_several_at_once_raise_the_first_one_listed(self):
         for function, parts in FUNCTIONS:
-            if len(parts) == 2:
-                (error, _, invalid), (_, _, invalid_too) = parts
-                for value, other in itertools.product(invalid, invalid_too):
-                    self.check(error, function, value, other)
+            for one, two in itertools.combinations(range(len(parts)), 2):
+                values = [valid for _, valid, _ in parts]
+                for values[one], values[two] in itertools.product(parts[one][2], parts[two][2]):
+                    self.check(parts[one][0], function, *values)
+
+    def test_all_at_once_raise_the_first_one_listed(self):
+        for function, parts in FUNCTIONS:
+            for number in range(len(parts)):
+                values = [valid for _, valid, _ in parts[:number]] + [invalid[0] for _, _, invalid in parts[number:]]
+                self.check(parts[number][0], function, *values)
 
     def test_all_places_of_a_row_and_none_beyond(self):
         for length in samples.LENGTHS:
@@ -155,10 +213,12 @@ class OfEachFunction(unittest.TestCase):
             self.check(InvalidRounds, after, ROW, rounds)
 
     def test_entries_at_the_limits(self):
-        row = (GREATEST, -GREATEST) * 50
+        row = (GREATEST, -GREATEST) * 3
         for function, parts in FUNCTIONS:
             if parts[0] is ROW_PART:
                 function(row, *[row if part is ROW_PART else part[1] for part in parts[1:]])
+                if WEIGHTS_PART not in parts:
+                    function(row * 16, *[row * 16 if part is ROW_PART else part[1] for part in parts[1:]])
 
     def test_not_alike(self):
         self.check(NotAlike, meeting, ROW, ROW[:-1])
@@ -177,6 +237,92 @@ class OfEachFunction(unittest.TestCase):
         for row in samples.NO_SPANS_BUT_ROWS:
             self.check(NotSpans, roots_of, row)
 
+    def test_span_rows_with_one_entry_changed(self):
+        rows = samples.changed_span_rows()
+        self.assertGreater(len(rows), 100)
+        for function, parts in FUNCTIONS:
+            if parts[0] is SPANS_PART:
+                for row in rows:
+                    self.check(NotSpans, function, row, *[valid for _, valid, _ in parts[1:]])
+
+    def test_rows_that_are_not_still(self):
+        for row in samples.NO_STILL:
+            self.check(NotStill, still_number, row)
+
+    def test_not_still_comes_last(self):
+        for row in [(4, 2, True), [4, 2, 3], (1, 1, 2) + (1,) * 98, (1, GREATEST + 1)]:
+            self.check(InvalidRow, still_number, row)
+
+    def test_long_orders_with_one_integer_changed(self):
+        for length in [2, 50, 100]:
+            order = tuple(range(length))
+            for place in {0, 1, length // 2, length - 1}:
+                for integer in [-1, length, length + 1, (place + 1) % length, GREATEST, True, False, None, "0", (0,)]:
+                    self.check(InvalidOrder, order_number, order[:place] + (integer,) + order[place + 1:])
+                self.check(InvalidOrder, order_number, order[:place] + order[place + 1:] + (length,))
+
+    def test_numbers_at_both_ends(self):
+        for size in [1, 2, 3, 50, 99, 100]:
+            spans = nth_spans(size, count_spans(size) // 2)
+            cases = [(nth_spans, size, count_spans(size)), (nth_still, size, count_still(size))]
+            for function, first, count in cases + [(nth_order, spans, count_orders(spans))]:
+                for number in {0, count // 2, count - 1}:
+                    function(first, number)
+                for number in samples.no_numbers(count):
+                    self.check(InvalidNumber, function, first, number)
+
+    def test_numbers_of_another_size(self):
+        self.check(InvalidNumber, nth_spans, 5, 131)
+        self.check(InvalidNumber, nth_still, 5, 48)
+        self.check(InvalidNumber, nth_order, (1, 1, 2, 1, 2), 7)
+        # The number of the last span row is none of a still row.
+        self.check(InvalidNumber, nth_still, 6, 131)
+
+    def test_bounds_at_both_ends(self):
+        for spans in [(1,), SPANS, (1,) * 100]:
+            for below in [1, 2, GREATEST - 1, GREATEST]:
+                rows_below(spans, below)
+            for below in samples.NO_BELOWS:
+                self.check(InvalidBelow, rows_below, spans, below)
+
+    def test_weights_at_both_ends(self):
+        for length in samples.LENGTHS:
+            row = (GREATEST,) * length
+            for weights in [(1,) * length, (GREATEST_WEIGHT,) * length]:
+                weighted_needed(row, weights)
+                for rounds in [0, 1, GREATEST]:
+                    weighted_after(row, weights, rounds=rounds)
+            for weights in [(1,) * (length - 1), (1,) * (length + 1), [1] * length]:
+                self.check(InvalidWeights, weighted_needed, row, weights)
+                self.check(InvalidWeights, after_weighted, row, weights, -1)
+
+    def test_pairs_of_places_at_both_ends(self):
+        for length in samples.LENGTHS:
+            spans = (1,) * length
+            for function in [relation, is_certain, lambda *values: example_with(*values, "=")]:
+                for one, two in itertools.permutations(sorted({0, length // 2, length - 1}), 2):
+                    function(spans, one, two)
+                for place in samples.no_places(length):
+                    if type(place) is not int or not 0 <= place < length:
+                        self.check(InvalidPlace, function, spans, place, 0)
+                        self.check(InvalidPlace, function, spans, 0, place)
+                        self.check(InvalidPlace, function, spans, place, place)
+                for place in {0, length // 2, length - 1}:
+                    self.check(InvalidPlace, function, spans, place, place)
+
+    def test_the_same_place_is_judged_before_the_sign(self):
+        for sign in samples.NO_SIGNS + ["<", "=", ">"]:
+            self.check(InvalidPlace, example_with, SPANS, 3, 3, sign)
+
+    def test_an_invalid_sign_where_no_row_could_be(self):
+        for sign in samples.NO_SIGNS:
+            self.check(InvalidSign, example_with, (1, 2), 0, 1, sign)
+
+    def test_is_weights_raises_nothing_but_for_the_row(self):
+        for value in samples.NO_WEIGHTS + samples.NO_ROWS:
+            is_weights(ROW, value)
+            self.check(InvalidRow, is_weights, [9, 7, 8, 5, 6, 4], value)
+
     def test_is_row_and_is_spans_raise_nothing(self):
         for value in samples.NO_SPANS + samples.NO_BRACKETS + samples.NO_INTEGERS:
             is_row(value)
@@ -186,18 +332,24 @@ class OfEachFunction(unittest.TestCase):
 class Unchanged(unittest.TestCase):
     def test_arguments_are_not_changed(self):
         for function, parts in FUNCTIONS:
-            for _, _, invalid in parts[:1]:
-                for value in invalid:
-                    before = copy.deepcopy(value)
-                    valid = [valid for _, valid, _ in parts[1:]]
-                    self.assertRaises(ValueError, function, value, *valid)
-                    self.assertEqual((type(value), value), (type(before), before))
+            for number, (_, _, invalid) in enumerate(parts):
+                values = [valid for _, valid, _ in parts]
+                for values[number] in invalid:
+                    before = copy.deepcopy(values)
+                    self.assertRaises(ValueError, function, *values)
+                    self.assertEqual([type(value) for value in values], [type(value) for value in before])
+                    self.assertEqual(values, before)
+            values = [valid for _, valid, _ in parts]
+            before = copy.deepcopy(values)
+            function(*values)
+            self.assertEqual(values, before)
 
     def test_any_value_is_not_changed(self):
         for value in samples.NO_SPANS:
             before = copy.deepcopy(value)
             is_row(value)
             is_spans(value)
+            is_weights(ROW, value)
             self.assertEqual((type(value), value), (type(before), before))
 
     def test_equal_arguments_give_equal_results(self):
@@ -209,8 +361,9 @@ class Unchanged(unittest.TestCase):
         for function, parts in FUNCTIONS:
             valid = [valid for _, valid, _ in parts]
             before = function(*valid)
-            for value in parts[0][2]:
-                self.assertRaises(ValueError, function, value, *valid[1:])
+            for number, (_, _, invalid) in enumerate(parts):
+                for value in invalid:
+                    self.assertRaises(ValueError, function, *valid[:number], value, *valid[number + 1:])
             self.assertEqual(function(*valid), before)
 
     def test_a_returned_list_is_new(self):

@@ -1,4 +1,4 @@
-"""Every example of DOC.md, sections 4 to 6, as written there, the table of [10], and those of README.md."""
+"""Every example of DOC.md, sections 4 to 10, as written there, the table of [10], and those of README.md."""
 
 import doctest
 import pathlib
@@ -71,6 +71,68 @@ FORESTS = """
 [(0, 5), (1, 1), (1, 5), (3, 3), (3, 5), (5, 5)]
 """
 
+COUNTING = """
+>>> from spanrounds.counting import count_spans, count_still
+>>> [[count_spans(size) for size in range(1, 6)], [count_still(size) for size in range(1, 7)]]
+[[1, 2, 5, 14, 42], [1, 2, 4, 9, 20, 49]]
+
+>>> from spanrounds.counting import nth_spans, spans_number
+>>> [[nth_spans(3, number) for number in range(5)], spans_number((1, 1, 2, 1, 2, 1))]
+[[(1, 1, 1), (1, 1, 2), (1, 1, 3), (1, 2, 1), (1, 2, 3)], 53]
+
+>>> from spanrounds.counting import nth_still, still_number
+>>> [[nth_still(3, number) for number in range(4)], still_number((1, 1, 3, 1, 2, 1))]
+[[(1, 1, 1), (1, 2, 1), (1, 1, 3), (1, 2, 3)], 9]
+"""
+
+ORDERS = """
+>>> from spanrounds.orders import count_orders
+>>> [count_orders(spans) for spans in [(1, 1, 2, 1, 2, 1), (1, 2, 3), (1, 1)]]
+[8, 1, 1]
+
+>>> from spanrounds.orders import nth_order, order_number
+>>> spans = (1, 1, 2, 1, 2, 1)
+>>> [nth_order(spans, 0), nth_order(spans, 7), order_number((5, 3, 4, 1, 2, 0))]
+[(5, 3, 4, 1, 2, 0), (5, 0, 4, 1, 3, 2), 0]
+
+>>> from spanrounds.orders import count_rows
+>>> [count_rows((1, 1), below=3), count_rows((1, 2), below=3), count_rows((1, 1, 2), below=2)]
+[6, 3, 1]
+"""
+
+READING = """
+>>> from spanrounds.reading import relation
+>>> spans = (1, 1, 2, 1, 2, 1)
+>>> [relation(spans, one, other) for one, other in [(0, 2), (0, 1), (1, 2), (4, 2), (1, 3)]]
+['>=', '>', '<', '<=', 'open']
+
+>>> from spanrounds.reading import example
+>>> from spanrounds.rows import row_after
+>>> spans = (1, 1, 2, 1, 2, 1)
+>>> found = [example(spans, 1, 3, sign=sign) for sign in ["<", "=", ">"]]
+>>> [[row_after(row) for row in found] == [spans] * 3, example(spans, 0, 1, sign="=")]
+[True, None]
+
+>>> from spanrounds.reading import is_certain
+>>> spans = (1, 1, 2, 1, 2, 1)
+>>> [is_certain(spans, 0, 1), is_certain(spans, 1, 3)]
+[True, False]
+"""
+
+WEIGHTS = """
+>>> from spanrounds.weights import is_weights
+>>> [is_weights((9, 8, 7), (2, 1, 2)), is_weights((9, 8, 7), (2, 0, 2)), is_weights((9, 8), (1,))]
+[True, False, False]
+
+>>> from spanrounds.weights import weighted_after
+>>> [weighted_after((9, 8, 7), (2, 1, 2), rounds=rounds) for rounds in [1, 2, 3, 10 ** 30]]
+[(2, 1, 2), (2, 1, 3), (2, 1, 5), (2, 1, 5)]
+
+>>> from spanrounds.weights import weighted_needed
+>>> [weighted_needed((9, 8, 7), (2, 1, 2)), weighted_needed((5, 4), (1, 2)), weighted_needed((2, 1), (2, 1))]
+[3, 2, 0]
+"""
+
 
 class Examples(unittest.TestCase):
     def check(self, text, calls):
@@ -88,11 +150,23 @@ class Examples(unittest.TestCase):
     def test_section_6(self):
         self.check(FORESTS, 11)
 
+    def test_section_7(self):
+        self.check(COUNTING, 6)
+
+    def test_section_8(self):
+        self.check(ORDERS, 7)
+
+    def test_section_9(self):
+        self.check(READING, 11)
+
+    def test_section_10(self):
+        self.check(WEIGHTS, 6)
+
     def test_readme(self):
         path = pathlib.Path(__file__).resolve().parent.parent / "README.md"
         examples = [part for part in path.read_text(encoding="utf-8").split("```") if ">>>" in part]
         self.assertEqual(len(examples), 1)
-        self.check(examples[0], 12)
+        self.check(examples[0], 21)
 
     def test_table_of_point_10(self):
         row = (9, 7, 8, 5, 6, 4)

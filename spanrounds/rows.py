@@ -1,6 +1,6 @@
 """Rows, hinderers, spans and rounds."""
 
-from spanrounds.checks import GREATEST_ENTRY, MOST_ENTRIES, check_place, check_rounds, is_whole
+from spanrounds.checks import MOST_ENTRIES, check_place, check_rounds, is_entry
 from spanrounds.errors import InvalidRow
 
 
@@ -8,7 +8,7 @@ def is_row(value):
     """Tell whether any value is a row."""
     if not isinstance(value, tuple) or not 1 <= len(value) <= MOST_ENTRIES:
         return False
-    return all([is_whole(entry, -GREATEST_ENTRY, GREATEST_ENTRY) for entry in value])
+    return all([is_entry(entry) for entry in value])
 
 
 def check_row(row):

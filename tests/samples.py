@@ -175,3 +175,32 @@ def changed_span_rows():
             if not reference.is_span_row(row):
                 found.append(row)
     return found
+
+
+NO_ENTRIES = [GREATEST + 1, -GREATEST - 1, 10 ** 31, -10 ** 31, 10 ** 199, -10 ** 199] + NO_INTEGERS
+
+# Values of none of the forms of operations on a live row, although some items behind the first ones are valid.
+NO_OPERATIONS = [
+    (), ("play",), ("play", 1, 1), ("play", 1, 2, 3), ("put",), ("put", 0), ("put", 0, 1, 2), ("take",), ("take", 0, 1),
+    ("change",), ("change", 0), ("change", 0, 1, 2), ("undo",), ("undo", 1), ("log",), ("preview",), ("row", 1),
+    ("Play", 1), ("PUT", 0, 1), ("play ", 1), (" take", 0), ("tak", 0), ("takes", 0), ("", 0), ("", 0, 1), ("p", 0),
+    (b"play", 1), (None, 1), (True, 1), (0, 1), (1, 0, 1), (["play"], 1), (("play",), 1), ([], 1), ({}, 1), ((), 0),
+    (("play", 1),), (("put", 0, 1), ("play", 1)), ({"play": 1}, 1), (plain_function, 1), (nested(19), 1), (1, "play"),
+    ["play", 1], ["put", 0, 1], ["take", 0], ["change", 0, 1], [], [("play", 1)], "play", "play 1", "put", "take 0", "",
+    b"play", {"play": 1}, {0: "play", 1: 1}, {}, None, True, False, 0, 1, -1, GREATEST, nested(20), plain_function,
+]
+
+# No texts of rows.
+NO_TEXTS = [
+    "", " ", "  ", "9  7", " 9", "9 ", " 9 7", "9 7 ", "9 7  8", "  9", "9\t7", "9,7", "9, 7", "(9, 7)", "[9]", "9;7",
+    "+9", "+0", "9 +7", "-0", "9 -0", "-0 9", "00", "01", "007", "9 07", "-01", "-00", "9 -07", "--9", "-", "9 -", "- 9",
+    "9-", "9 7-", "-+9", "+-9", "9-7", "9\n", "\n", "\n9", "9\n7", "9 \n7", "9\r", "9 7\r", "9\x0b", "9\x00", "\x009",
+    "a", "9 a", "9a", "a9", "0x9", "1e3", "1_000", "1.0", "9.", ".9", "1/1", "None", "True", "nan", "(", "'9'", "ok",
+    "\u0661", "9 \u0662", "\u00b2", "9\u00a07", "9\u20037", "\uff19", "9 \u2212" + "7", "\u00bd", "\u4e00",
+    str(GREATEST + 1), str(-GREATEST - 1), "9 " + str(GREATEST + 1), str(-GREATEST - 1) + " 9", "9" * 31, "-" + "9" * 31,
+    "1" + "0" * 31, "9" * 32, "9" * 200, "9" * 4000, "-" + "9" * 4299, "9" * 5000, "-" + "9" * 6000, "0" * 31, "0" * 4000,
+    " ".join("1" * 101), " ".join("1" * 200), " ".join("1" * 2000), " ".join("1" * 100) + " ", " " + " ".join("1" * 100),
+    " ".join("1" * 99) + "  1", " ".join("1" * 99) + " a",
+    None, True, False, 0, 9, -1, GREATEST, b"9", b"9 7", b"", (), (9,), ("9",), ("9", "7"), (9, 7), [], ["9"], [9, 7],
+    ["9", "7"], {}, {"9": 7}, {9: 7}, nested(20), plain_function,
+]

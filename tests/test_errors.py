@@ -5,19 +5,28 @@ import itertools
 import unittest
 
 import samples
+import samples_console
+import samples_long
 from samples import GREATEST, GREATEST_WEIGHT, ROW, SPANS
+from samples_long import BLOCKS, GREATEST_COUNT
 from spanrounds import errors
+from spanrounds.console import Console
 from spanrounds.counting import count_spans, count_still, nth_spans, nth_still, spans_number, still_number
 from spanrounds.errors import (
     InvalidBelow,
+    InvalidBlocks,
     InvalidBrackets,
+    InvalidCommand,
+    InvalidEntry,
     InvalidNumber,
+    InvalidOperation,
     InvalidOrder,
     InvalidPlace,
     InvalidRounds,
     InvalidRow,
     InvalidSign,
     InvalidSize,
+    InvalidText,
     InvalidWeights,
     NotAlike,
     NotSpans,
@@ -33,6 +42,8 @@ from spanrounds.forests import (
     stretch_of,
     to_brackets,
 )
+from spanrounds.live import LiveRow
+from spanrounds.long import is_blocks, long_after, long_count, long_entry, long_needed
 from spanrounds.orders import count_orders, count_rows, nth_order, order_number
 from spanrounds.reading import example, is_certain, relation
 from spanrounds.rows import hinderer, is_row, row_after, rows_of, span_of
@@ -45,6 +56,7 @@ from spanrounds.settling import (
     rounds_needed,
     slowest_row,
 )
+from spanrounds.texts import read_row, show_row
 from spanrounds.weights import is_weights, weighted_after, weighted_needed
 
 NAMES = [
@@ -102,6 +114,48 @@ def weights_of(row):
     return is_weights(row, (1,) * 6)
 
 
+def after_long(blocks, rounds):
+    return long_after(blocks, rounds=rounds)
+
+
+def entry_of_long(blocks, place, rounds):
+    return long_entry(blocks, place, rounds=rounds)
+
+
+def count_of_long(blocks, entry, rounds):
+    return long_count(blocks, entry, rounds=rounds)
+
+
+def still_live(size, number):
+    return LiveRow.still(size, number=number)
+
+
+def play(rounds):
+    return LiveRow(ROW).play(rounds=rounds)
+
+
+def put(place, entry):
+    return LiveRow(ROW).put(place, entry)
+
+
+def take(place):
+    return LiveRow(ROW).take(place)
+
+
+def change(place, entry):
+    return LiveRow(ROW).change(place, entry)
+
+
+def preview(*operations):
+    return LiveRow(ROW).preview(*operations)
+
+
+def say(command):
+    console = Console()
+    console.say("row 9 7 8 5 6 4")
+    return console.say(command)
+
+
 ROW_PART = (InvalidRow, ROW, samples.NO_ROWS)
 SPANS_PART = (NotSpans, SPANS, samples.NO_SPANS)
 PLACE_PART = (InvalidPlace, 2, samples.no_places(6))
@@ -117,6 +171,15 @@ BELOW_PART = (InvalidBelow, 3, samples.NO_BELOWS)
 OTHER_PART = (InvalidPlace, 4, samples.no_places(6) + [2])
 SIGN_PART = (InvalidSign, "<", samples.NO_SIGNS)
 WEIGHTS_PART = (InvalidWeights, (3, 1, 4, 1, 5, 9), samples.NO_WEIGHTS)
+BLOCKS_PART = (InvalidBlocks, BLOCKS, samples_long.NO_BLOCKS)
+LONG_PLACE_PART = (InvalidPlace, 7, samples.no_places(8))
+ANY_ENTRY_PART = (InvalidEntry, 10 ** 199, samples.NO_INTEGERS)
+ENTRY_PART = (InvalidEntry, -GREATEST, samples.NO_ENTRIES)
+PLAY_PART = (InvalidRounds, GREATEST, [0] + samples.NO_ROUNDS)
+PUT_PART = (InvalidPlace, 6, samples.no_places(7))
+OPERATION_PART = (InvalidOperation, ("put", 0, 5), samples.NO_OPERATIONS)
+TEXT_PART = (InvalidText, "9 -7 8", samples.NO_TEXTS)
+COMMAND_PART = (InvalidCommand, "take 0", samples_console.no_commands())
 
 # Each function with its parameters, in the order in which their errors are listed:
 # the error, a valid value, and values that raise the error.
@@ -156,6 +219,23 @@ FUNCTIONS = [
     (weighted_needed, [ROW_PART, WEIGHTS_PART]),
     (weighted_after, [ROW_PART, WEIGHTS_PART]),
     (after_weighted, [ROW_PART, WEIGHTS_PART, ROUNDS_PART]),
+    (long_after, [BLOCKS_PART]),
+    (after_long, [BLOCKS_PART, ROUNDS_PART]),
+    (long_entry, [BLOCKS_PART, LONG_PLACE_PART]),
+    (entry_of_long, [BLOCKS_PART, LONG_PLACE_PART, ROUNDS_PART]),
+    (long_count, [BLOCKS_PART, ANY_ENTRY_PART]),
+    (count_of_long, [BLOCKS_PART, ANY_ENTRY_PART, ROUNDS_PART]),
+    (long_needed, [BLOCKS_PART]),
+    (LiveRow, [ROW_PART]),
+    (still_live, [SIZE_PART, STILL_NUMBER_PART]),
+    (play, [PLAY_PART]),
+    (put, [PUT_PART, ENTRY_PART]),
+    (take, [PLACE_PART]),
+    (change, [PLACE_PART, ENTRY_PART]),
+    (preview, [OPERATION_PART, OPERATION_PART]),
+    (show_row, [ROW_PART]),
+    (read_row, [TEXT_PART]),
+    (say, [COMMAND_PART]),
 ]
 
 
@@ -318,6 +398,28 @@ class OfEachFunction(unittest.TestCase):
         for sign in samples.NO_SIGNS:
             self.check(InvalidSign, example_with, (1, 2), 0, 1, sign)
 
+    def test_blocks_and_places_at_both_ends(self):
+        for entry, count, many in itertools.product([GREATEST, -GREATEST, 0], [1, GREATEST_COUNT], [1, 2, 200]):
+            blocks, size = ((entry, count),) * many, count * many
+            for rounds in [0, 1, GREATEST]:
+                after_long(blocks, rounds)
+                for place in {0, size // 2, size - 1}:
+                    entry_of_long(blocks, place, rounds)
+                for wanted in [0, entry, GREATEST + 1, -GREATEST - 1, 10 ** 199, -10 ** 199]:
+                    count_of_long(blocks, wanted, rounds)
+            long_needed(blocks)
+            for place in [-1, -size, size, size + 1, 10 ** 199, True, None]:
+                self.check(InvalidPlace, long_entry, blocks, place)
+                self.check(InvalidPlace, entry_of_long, blocks, place, -1)
+        for function, parts in FUNCTIONS:
+            if parts[0] is BLOCKS_PART:
+                for blocks in [((1, 1),) * 201, ((GREATEST + 1, 1),), ((1, GREATEST_COUNT + 1),), ((1, 0),)]:
+                    self.check(InvalidBlocks, function, blocks, *[invalid[0] for _, _, invalid in parts[1:]])
+
+    def test_is_blocks_raises_nothing(self):
+        for value in samples_long.NO_BLOCKS + samples.NO_SPANS + samples.NO_INTEGERS:
+            self.assertIs(is_blocks(value), False, value)
+
     def test_is_weights_raises_nothing_but_for_the_row(self):
         for value in samples.NO_WEIGHTS + samples.NO_ROWS:
             is_weights(ROW, value)
@@ -345,11 +447,12 @@ class Unchanged(unittest.TestCase):
             self.assertEqual(values, before)
 
     def test_any_value_is_not_changed(self):
-        for value in samples.NO_SPANS:
+        for value in samples.NO_SPANS + samples_long.NO_BLOCKS:
             before = copy.deepcopy(value)
             is_row(value)
             is_spans(value)
             is_weights(ROW, value)
+            is_blocks(value)
             self.assertEqual((type(value), value), (type(before), before))
 
     def test_equal_arguments_give_equal_results(self):

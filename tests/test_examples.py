@@ -1,4 +1,4 @@
-"""Every example of DOC.md, sections 4 to 10, as written there, the table of [10], and those of README.md."""
+"""Every example of DOC.md, sections 4 to 14, as written there, the table of [10], and those of README.md."""
 
 import doctest
 import pathlib
@@ -133,6 +133,98 @@ WEIGHTS = """
 [3, 2, 0]
 """
 
+LONG = """
+>>> from spanrounds.long import is_blocks
+>>> [is_blocks(((7, 10 ** 28), (7, 5))), is_blocks(((7, 0),)), is_blocks(())]
+[True, False, False]
+
+>>> from spanrounds.long import long_after
+>>> blocks = ((5, 3), (2, 4), (3, 1))
+>>> [long_after(blocks, rounds=rounds) for rounds in [0, 1, 2, 3]]
+[((5, 3), (2, 4), (3, 1)), ((1, 7), (5, 1)), ((1, 7), (8, 1)), ((1, 7), (8, 1))]
+
+>>> from spanrounds.long import long_count, long_entry
+>>> blocks = ((2, 10 ** 28), (7, 1))
+>>> [long_entry(blocks, 10 ** 28), long_entry(blocks, 5), long_count(blocks, 1), long_count(blocks, 7, rounds=0)]
+[10000000000000000000000000001, 1, 10000000000000000000000000000, 1]
+
+>>> from spanrounds.long import long_needed
+>>> [long_needed(((5, 3), (2, 4), (3, 1))), long_needed(((1, 10 ** 28),)), long_needed(((4, 1), (2, 1), (3, 1)))]
+[2, 0, 2]
+"""
+
+LIVE = """
+>>> from spanrounds.live import LiveRow
+>>> live = LiveRow((4, 2, 3))
+>>> [live.row, live.spans, live.stands, len(live), LiveRow.LIMIT]
+[(4, 2, 3), (1, 1, 2), False, 3, 100]
+
+>>> from spanrounds.live import LiveRow
+>>> LiveRow.of(4, 2, 3).spans
+(1, 1, 2)
+
+>>> from spanrounds.live import LiveRow
+>>> LiveRow.still(3, number=2).row
+(1, 1, 3)
+
+>>> from spanrounds.live import LiveRow
+>>> live = LiveRow.of(4, 2, 3)
+>>> [live.play(), live.play(rounds=10 ** 30), live.stands]
+[(1, 1, 2), (1, 1, 3), True]
+
+>>> from spanrounds.live import LiveRow
+>>> live = LiveRow.of(4, 3)
+>>> live.put(1, 2)
+>>> [live.row, live.spans]
+[(4, 2, 3), (1, 1, 2)]
+
+>>> from spanrounds.live import LiveRow
+>>> live = LiveRow.of(4, 2, 3)
+>>> [live.take(0), live.spans]
+[4, (1, 2)]
+
+>>> from spanrounds.live import LiveRow
+>>> live = LiveRow.of(4, 2, 3)
+>>> [live.change(2, 5), live.spans]
+[3, (1, 1, 3)]
+
+>>> from spanrounds.live import LiveRow
+>>> live = LiveRow.of(4, 2, 3)
+>>> row = live.play()
+>>> live.undo()
+>>> [row, live.row]
+[(1, 1, 2), (4, 2, 3)]
+
+>>> from spanrounds.live import LiveRow
+>>> live = LiveRow.of(4, 2)
+>>> live.put(2, 3)
+>>> [live.play(), live.take(0), live.log()]
+[(1, 1, 2), 1, [('put', 2, 3), ('play', 1), ('take', 0)]]
+
+>>> from spanrounds.live import LiveRow
+>>> live = LiveRow.of(4, 2)
+>>> [live.preview(("put", 2, 3), ("play", 1)), live.row, live.log()]
+[(1, 1, 2), (4, 2), []]
+
+>>> from spanrounds.live import LiveRow
+>>> [LiveRow.of(2, 1) == LiveRow((2, 1)), LiveRow.of(2, 1) == (2, 1)]
+[True, False]
+"""
+
+TEXTS = """
+>>> from spanrounds.texts import read_row, show_row
+>>> [show_row((3, -5, 3)), read_row('9 7 8')]
+['3 -5 3', (9, 7, 8)]
+"""
+
+CONSOLE = """
+>>> from spanrounds.console import Console
+>>> console = Console()
+>>> opened = console.say('row 9 7 8 5 6 4')
+>>> [console.say(command) for command in ['spans', 'final', 'needed', 'brackets', 'number', 'orders', 'relation 1 3', 'meet 1 1 3 1 2 1', 'take 0']]
+['1 1 2 1 2 1', '1 1 3 1 2 1', '2', '()(())(())()', '53', '8', 'open', '2', '9']
+"""
+
 
 class Examples(unittest.TestCase):
     def check(self, text, calls):
@@ -162,11 +254,23 @@ class Examples(unittest.TestCase):
     def test_section_10(self):
         self.check(WEIGHTS, 6)
 
+    def test_section_11(self):
+        self.check(LONG, 10)
+
+    def test_section_12(self):
+        self.check(LIVE, 34)
+
+    def test_section_13(self):
+        self.check(TEXTS, 2)
+
+    def test_section_14(self):
+        self.check(CONSOLE, 4)
+
     def test_readme(self):
         path = pathlib.Path(__file__).resolve().parent.parent / "README.md"
         examples = [part for part in path.read_text(encoding="utf-8").split("```") if ">>>" in part]
         self.assertEqual(len(examples), 1)
-        self.check(examples[0], 21)
+        self.check(examples[0], 38)
 
     def test_table_of_point_10(self):
         row = (9, 7, 8, 5, 6, 4)

@@ -58,7 +58,46 @@ INTERFACE = {
         "weighted_after": "(row, weights, *, rounds=1)",
         "weighted_needed": "(row, weights)",
     },
+    "long": {
+        "is_blocks": "(value)",
+        "long_after": "(blocks, *, rounds=1)",
+        "long_entry": "(blocks, place, *, rounds=1)",
+        "long_count": "(blocks, entry, *, rounds=1)",
+        "long_needed": "(blocks)",
+    },
+    "live": {
+        "LiveRow": "(row)",
+    },
+    "texts": {
+        "show_row": "(row)",
+        "read_row": "(text)",
+    },
+    "console": {
+        "Console": "()",
+    },
 }
+
+# The methods of each class as they are called off an object, or off the class.
+METHODS = {
+    ("live", "LiveRow"): {
+        "of": "(*entries)",
+        "still": "(size, *, number=0)",
+        "play": "(*, rounds=1)",
+        "put": "(place, entry)",
+        "take": "(place)",
+        "change": "(place, entry)",
+        "undo": "()",
+        "log": "()",
+        "preview": "(*operations)",
+        "__len__": "()",
+        "__eq__": "(other)",
+    },
+    ("console", "Console"): {
+        "say": "(command)",
+    },
+}
+CREATED = {"LiveRow": ((4, 2, 3),), "Console": ()}
+PROPERTIES = ["row", "spans", "stands"]
 
 
 class Interface(unittest.TestCase):
@@ -73,6 +112,33 @@ class Interface(unittest.TestCase):
             defined = [node.name for node in parsed(PACKAGE / (name + ".py")).body if hasattr(node, "name")]
             self.assertEqual([function for function in functions if function not in defined], [], name)
 
+    def test_methods_and_their_arguments(self):
+        for (name, class_name), methods in METHODS.items():
+            made = getattr(importlib.import_module("spanrounds." + name), class_name)
+            one = made(*CREATED[class_name])
+            for method, arguments in methods.items():
+                self.assertEqual(str(inspect.signature(getattr(one, method))), arguments, method)
+                # In the class itself, not only in a base class.
+                self.assertIn(method, vars(made))
+
+    def test_class_methods_properties_and_the_class_value(self):
+        made = importlib.import_module("spanrounds.live").LiveRow
+        for name in ["of", "still"]:
+            self.assertIsInstance(vars(made)[name], classmethod)
+        for name in PROPERTIES:
+            self.assertIsInstance(vars(made)[name], property)
+        self.assertEqual(vars(made)["LIMIT"], 100)
+
+    def test_arguments_behind_a_star_are_passed_by_keyword_only(self):
+        live = importlib.import_module("spanrounds.live").LiveRow.of(4, 2, 3)
+        long = importlib.import_module("spanrounds.long")
+        self.assertRaises(TypeError, live.play, 1)
+        self.assertRaises(TypeError, live.still, 3, 1)
+        self.assertRaises(TypeError, long.long_after, ((1, 1),), 1)
+        self.assertRaises(TypeError, long.long_entry, ((1, 1),), 0, 1)
+        self.assertRaises(TypeError, long.long_count, ((1, 1),), 0, 1)
+        self.assertEqual([live.row, live.log()], [(4, 2, 3), []])
+
 
 def parsed(path):
     return ast.parse(path.read_text(encoding="utf-8"))
@@ -83,7 +149,7 @@ def files():
 
 
 class Form(unittest.TestCase):
-    """A part of LANGUAGE.md that a test can see at a glance: of L1, L2, L7, L8, L10, L14 to L16 and L27."""
+    """A part of LANGUAGE.md that a test can see at a glance: of L1, L2, L7, L8, L10, L14 to L16, L25 and L27."""
 
     def test_files(self):
         for path in files():
@@ -122,6 +188,12 @@ class Form(unittest.TestCase):
                 if isinstance(node, ast.Constant):
                     self.assertNotIsInstance(node.value, (float, complex))
                     self.assertNotIn("%", str(node.value))
+
+    def test_beside_a_class_with_an_eq_no_generator_expression_and_no_sort(self):
+        for path in files():
+            for node in ast.walk(parsed(path)):
+                self.assertNotIsInstance(node, ast.GeneratorExp, path)
+                self.assertNotEqual(getattr(node, "attr", ""), "sort", path)
 
     def test_only_the_builtins_that_are_allowed(self):
         allowed = set(

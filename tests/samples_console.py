@@ -32,15 +32,19 @@ NO_NUMBERS = [word for word in NO_NATURALS if word != "-1"] + [
 def no_commands():
     """Values of none of the forms."""
     found = [
-        None, True, False, 0, 1, -1, GREATEST, b"show", b"row 1", b"", (), ("show",), ("take", 0), ["show"], ["row", "1"],
+        None, True, False, 0, 1, -1, GREATEST, b"show", b"row 1", b"", (), ("show",), ("take", 0), ["show"],
+        ["row", "1"],
         [], {}, {"show": 1}, samples.nested(20), samples.plain_function,
-        "", " ", "  ", "\n", "a", "ok", "none", "help", "rows", "ro", "r", "row", "meet", "row\t1", "row,1", "row1", "meet1",
+        "", " ", "  ", "\n", "a", "ok", "none", "help", "rows", "ro", "r", "row", "meet", "row\t1", "row,1", "row1",
+        "meet1",
         "row\u00a01", "Row 1", "ROW 1", "Meet 1", "rows 1", "meets 1", " row 1", " meet 1", "  row 1", "live 1", "log",
         "preview", "preview 1", "still 3", "of 1 2", "len", "rounds_needed", "meeting 1", "undo undo", "show show",
-        "show; show", "show,spans", "show row", "spans show", "play play", "play N", "put P E", "take P", "relation P P",
+        "show; show", "show,spans", "show row", "spans show", "play play", "play N", "put P E", "take P",
+        "relation P P",
     ]
     for word in WITHOUT_WORDS:
-        found += [word + more for more in [" ", "  ", " 0", " 1", " a", " 1 2", "s1", "x", ".", "\t", "\r", "\x00", "()"]]
+        behind = [" ", "  ", " 0", " 1", " a", " 1 2", "s1", "x", ".", "\t", "\r", "\x00", "()"]
+        found += [word + more for more in behind]
         found += [" " + word, word.upper(), word.title(), word[:-1], word[1:], word + word]
     for word in WITH_ONE:
         found += [word + " " + number for number in NO_NATURALS]
@@ -49,8 +53,9 @@ def no_commands():
     for word in WITH_ENTRY + ["relation"]:
         others = NO_NATURALS if word == "relation" else NO_NUMBERS
         found += [word + " " + number + " 1" for number in NO_NATURALS] + [word + " 1 " + number for number in others]
-        found += [word, word + " 1", word + "  1 0", word + " 1  0", word + " 1 0 ", " " + word + " 1 0", word + " 1 0 2"]
-        found += [word.upper() + " 1 0", word.title() + " 1 0", word + " 1\t0", word + "\t1 0", word + " 1,0", word + " 1 0 0 0"]
+        found += [word, word + " 1", word + "  1 0", word + " 1  0", word + " 1 0 ", " " + word + " 1 0"]
+        found += [word + " 1 0 2", word + " 1 0 0 0"]
+        found += [word.upper() + " 1 0", word.title() + " 1 0", word + " 1\t0", word + "\t1 0", word + " 1,0"]
     for command in COMMANDS:
         found += [command + "\n", "\n" + command, command[:2] + "\n" + command[2:], command + "\n" + command]
     return found + ["row 1\n2", "row \n", "row 1 2\n", "meet 1\n1 3 1 2 1", "meet \n", "row\n1", "meet\n1", "row \n1"]

@@ -15,10 +15,12 @@ NO_BLOCKS = [
     ((5, 3), (2, 0), (3, 1)), ((5, 3), (2, 4), (3, 0)), ((5, 3), (2, 4), (3, GREATEST_COUNT + 1)),
     ((GREATEST + 1, 1),), ((-GREATEST - 1, 1),), ((10 ** 199, 1),), ((5, 3), (2, 4), (GREATEST + 1, 1)),
     ((-GREATEST - 1, 3), (2, 4), (3, 1)), ((1, 1),) * 199 + ((1, 0),), ((1, 1),) * 199 + ((GREATEST + 1, 1),),
-    ((True, 1),), ((False, 1),), ((1, True),), ((1, False),), ((5, 3), (2, True)), ((5, 3), (False, 4)), ((True, True),),
+    ((True, 1),), ((False, 1),), ((1, True),), ((1, False),), ((5, 3), (2, True)), ((5, 3), (False, 4)),
+    ((True, True),),
     ((None, 1),), ((1, None),), (("1", 1),), ((1, "1"),), ((b"1", 1),), (((1,), 1),), ((1, (1,)),), (([1], 1),),
     ((1, [1]),), (({}, 1),), ((1, {}),), ((plain_function, 1),), ((1, nested(18)),),
-    ((),), ((1,),), ((1, 1, 1),), ((1, 1), ()), ((1, 1), (1,)), ((1, 1), (1, 1, 1)), ((1, 1, 1), (1, 1)), ((1, 1, None),),
+    ((),), ((1,),), ((1, 1, 1),), ((1, 1), ()), ((1, 1), (1,)), ((1, 1), (1, 1, 1)), ((1, 1, 1), (1, 1)),
+    ((1, 1, None),),
     [], [(1, 1)], [[1, 1]], [(5, 3), (2, 4), (3, 1)], ([1, 1],), ((5, 3), [2, 4], (3, 1)), ((5, 3), (2, 4), [3, 1]),
     (1,), (1, 1), (1, (1, 1)), ((1, 1), 1), ((1, 1), None), (None,), (True,), ("11",), (b"11",), ("",), (range(1, 3),),
     ({1: 1, 2: 2},), ({},), (((1, 1),),), ((((1, 1),),),), ((1, 1), ((1, 1),)),
@@ -40,12 +42,13 @@ def middle_blocks():
     found = [((7, 300),), ((7, 100),) * 3, ((-3, 1),), ((1, 1),), ((1, 300),), ((1, 1), (2, 1)), ((GREATEST, 1),)]
     found += [((GREATEST, 150), (-GREATEST, 150), (GREATEST, 1)), ((1, 1), (1, 1), (3, 1)), ((1, 150),) * 2 + ((3, 9),)]
     found += [tuple((entry, 30) for entry in range(10)), tuple((entry, 30) for entry in range(10, 0, -1))]
-    found += [tuple((entry % 2, entry + 1) for entry in range(20)), tuple((entry % 3, 40 - entry) for entry in range(12))]
+    found += [tuple((entry % 2, entry + 1) for entry in range(20))]
+    found += [tuple((entry % 3, 40 - entry) for entry in range(12))]
     found += [reference_long.slow_blocks(rounds) for rounds in range(1, 11)]
     for different, many, longest in [(2, 30, 9), (3, 40, 7), (5, 8, 40), (9, 100, 3), (300, 150, 2), (GREATEST, 60, 4)]:
         for _ in range(6):
-            blocks = [(chance.randint(-different // 2, different // 2), chance.randint(1, longest)) for _ in range(many)]
-            found.append(tuple(blocks))
+            entries = [chance.randint(-different // 2, different // 2) for _ in range(many)]
+            found.append(tuple((entry, chance.randint(1, longest)) for entry in entries))
     return found
 
 

@@ -104,8 +104,10 @@ class Commands(ConsoleCase):
                 row = " ".join(str(chance.randrange(4)) for _ in range(chance.randint(5, 7)))
                 commands.append(chance.choice([
                     "play " + rounds, "put " + place + " " + entry, "take " + place, "change " + place + " " + entry,
-                    "undo", "undo", "show", "spans", "after " + rounds, "final", "needed", "brackets", "number", "orders",
-                    "relation " + place + " " + other, "meet " + row, chance.choice(["row " + row, "row", "row ", "show "]),
+                    "undo", "undo", "show", "spans", "after " + rounds, "final", "needed", "brackets", "number",
+                    "orders",
+                    "relation " + place + " " + other, "meet " + row, chance.choice(["row " + row, "row", "row ",
+                    "show "]),
                 ]))
             self.check_same(commands)
 
@@ -181,7 +183,8 @@ class Errors(ConsoleCase):
             self.check_error("InvalidCommand", [], value)
 
     def test_all_commands_but_row_need_a_live_row(self):
-        for command in NEED_A_ROW + ["meet ", "meet a", "meet 1 ", "play 0", "take 99", "relation 1 1", "put 9 " + "9" * 31]:
+        failing = ["meet ", "meet a", "meet 1 ", "play 0", "take 99", "relation 1 1", "put 9 " + "9" * 31]
+        for command in NEED_A_ROW + failing:
             self.check_error("InvalidCommand", [], command)
             console = Console()
             self.assertEqual(said(console, command), "!InvalidCommand")
@@ -224,8 +227,8 @@ class Errors(ConsoleCase):
 
     def test_places(self):
         for place in ["6", "7", "100", "9" * 31]:
-            for command in ["take " + place, "change " + place + " 1", "relation " + place + " 0", "relation 0 " + place]:
-                self.check_error("InvalidPlace", [ROW, "change 0 9"], command)
+            for command in ["take {}", "change {} 1", "relation {} 0", "relation 0 {}"]:
+                self.check_error("InvalidPlace", [ROW, "change 0 9"], command.format(place))
             self.check_error("InvalidPlace", [ROW, "change 0 9"], "change " + place + " " + "9" * 31)
             self.check_error("InvalidPlace", [ROW, "change 0 9"], "relation " + place + " " + place)
         for place in ["7", "8", "100", "9" * 31]:

@@ -341,7 +341,8 @@ FAILING = [
     (InvalidPlace, ("put", False, 1)), (InvalidPlace, ("put", None, None)), (InvalidEntry, ("put", 3, GREATEST + 1)),
     (InvalidEntry, ("put", 0, True)), (InvalidEntry, ("put", 0, [1])), (InvalidPlace, ("take", 3)),
     (InvalidPlace, ("take", -1)), (InvalidPlace, ("take", {})), (InvalidPlace, ("change", 3, 1)),
-    (InvalidPlace, ("change", [], [])), (InvalidEntry, ("change", 2, -GREATEST - 1)), (InvalidEntry, ("change", 0, "1")),
+    (InvalidPlace, ("change", [], [])), (InvalidEntry, ("change", 2, -GREATEST - 1)),
+    (InvalidEntry, ("change", 0, "1")),
 ]
 
 
@@ -555,7 +556,8 @@ class Equal(LiveCase):
         console = Console()
         console.say("row 2 1")
         others = samples.NO_ROWS + samples.NO_INTEGERS + [
-            (2, 1), [2, 1], "2 1", console, [live], (live,), {"row": (2, 1)}, {2: 1}, LiveRow, object(), 2, (1, 1), "ok",
+            (2, 1), [2, 1], "2 1", console, [live], (live,), {"row": (2, 1)}, {2: 1}, LiveRow, object(), 2, (1, 1),
+            "ok",
         ]
         for value in others:
             self.check_equal(live, value, False)

@@ -1,4 +1,4 @@
-"""What the document promises over the whole program: points [1] and [2], and that all modules tell the same of a row."""
+"""Points [1] and [2] over the whole program, and that all modules tell the same of a row."""
 
 import itertools
 import random
